@@ -1,0 +1,1 @@
+"""Mouths at one table: what they can eat together."""
