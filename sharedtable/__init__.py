@@ -1,1 +1,1 @@
-"""Mouths at one table: what they can eat together."""
+"""Mouths at one table: what they can eat together, and how it is shared most fairly."""

@@ -32,3 +32,11 @@ def bound_of(state, members, chosen):
 
 def most_of(state, members):
     return min([bound_of(state, members, chosen) for chosen in all_choices(members)])
+
+
+def bound_by_food(state, members):
+    choices = all_choices(members)
+    bounds = [bound_of(state, members, chosen) for chosen in choices]
+    least = min(bounds)
+    tight = [choices[at] for at, bound in enumerate(bounds) if bound == least]
+    return [mouth for mouth in members if any([mouth in chosen for chosen in tight])]

@@ -25,3 +25,11 @@ def is_amount(amount):
 
 def is_amount_row(amounts):
     return 1 <= len(amounts) <= MOST_OF_EACH and all([is_amount(amount) for amount in amounts])
+
+
+def is_share_row(shares, count):
+    return len(shares) == count and all([share >= 0 for share in shares])
+
+
+def is_order(numbers, count):
+    return sorted(numbers) == list(range(count))

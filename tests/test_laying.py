@@ -3,7 +3,9 @@
 import unittest
 
 from sharedtable.table import answers
-from tests.helper import TOLD, appetite, ask, flat, food, last, most, reach, row, table
+from tests.helper import (
+    FAIR, LEVELS, TOLD, WHOLE, appetite, ask, binding, can, flat, food, last, most, reach, rename, row,
+    table)
 
 
 class BeforeTheFirstCall(unittest.TestCase):
@@ -14,6 +16,26 @@ class BeforeTheFirstCall(unittest.TestCase):
         self.assertEqual(answers([5, 0]), [1, 0])
         self.assertEqual(answers([5, 1, 0]), [1, 0])
         self.assertEqual(answers([5, 1, 1]), [1, -2])
+
+    def test_binding(self):
+        self.assertEqual(answers([6, 0]), [1, 0])
+        self.assertEqual(answers([6, 1, 0]), [2, 0, 0])
+        self.assertEqual(answers([6, 1, 1]), [1, -2])
+
+    def test_can(self):
+        self.assertEqual(answers([7, 1, 0]), [1, 1])
+        self.assertEqual(answers([7, 1, 1]), [2, 0, 0])
+        self.assertEqual(answers([7, 0]), [1, -4])
+
+    def test_fair_levels_and_whole(self):
+        self.assertEqual(answers([8]), [3, 0, 0, 1])
+        self.assertEqual(answers([9]), [5, 0, 0, 1, 1, 0])
+        self.assertEqual(answers([10]), [2, 0, 0])
+
+    def test_rename(self):
+        self.assertEqual(answers([11, 1, 0]), [1, 0])
+        self.assertEqual(answers([11, 1, 0, 4]), [1, 0, 6, 0, 1, 1, 0, 0, 0])
+        self.assertEqual(answers([11, 1, 1]), [1, -5])
 
     def test_table_first(self):
         self.assertEqual(answers([0, 1, 7, 1, 9]), [1, 0])
@@ -106,6 +128,18 @@ class OneList(unittest.TestCase):
         want = flat([
             [1, 0], [1, 0], [1, 0], [1, 8], [1, 4],
             [1, -2], [1, 0], [12, 0, 2, 2, 1, 3, 4, 9, 1, 0, 2, 0, 1], [1, 4]])
+        self.assertEqual(answers(calls), want)
+
+    def test_of_every_sort(self):
+        calls = flat([
+            table([5, 3], [4, 9, 0]), reach(0, [0]), reach(1, [0]), FAIR, LEVELS, WHOLE,
+            binding([0, 1, 2]), can([3, 2, 0]), can([3, 3, 0]), can([0, 0]), rename([2, 0, 1]),
+            FAIR, LEVELS, WHOLE, binding([0, 1, 2]), can([0, 3, 3]), rename([0, 1]), most([1, 2])])
+        want = flat([
+            [1, 0], [1, 0], [1, 0], [7, 0, 5, 2, 5, 2, 0, 1], [10, 0, 0, 1, 1, 2, 5, 2, 2, 0, 1],
+            [4, 0, 3, 2, 0], [4, 0, 0, 1, 2], [1, 1], [3, 0, 0, 1], [1, -4], [1, 0],
+            [7, 0, 0, 1, 5, 2, 5, 2], [10, 0, 0, 1, 1, 0, 5, 2, 2, 1, 2], [4, 0, 0, 3, 2],
+            [4, 0, 0, 1, 2], [3, 0, 1, 2], [1, -5], [1, 5]])
         self.assertEqual(answers(calls), want)
 
 

@@ -1,9 +1,10 @@
-"""Every refusal of the six calls at its edges, their order, and that nothing changes."""
+"""Every refusal of every call at its edges, their order, and that nothing changes."""
 
 import unittest
 
 from tests.helper import (
-    FAR, HIGHEST, LOWEST, TOLD, appetite, ask, food, laid, last, most, reach, table)
+    FAIR, FAR, HIGHEST, LEVELS, LOWEST, TOLD, WHOLE, appetite, ask, binding, can, food, laid, last,
+    most, reach, rename, table)
 
 START = laid([5, 0, 100], [7, 100, 0, 3], [[0, 1], [], [2], [0, 1, 2]])
 PLACES = 3
@@ -23,11 +24,10 @@ NO_SETS = [[1, 0], [0, 2, 1], [0, 0], [0, 1, 1], [3, 3], [0, 1, 2, 3, 3], [0, 1,
 class Refusals(unittest.TestCase):
     def held(self, call, refusal):
         """The call is refused so, and all is as it was."""
-        looks = [TOLD, most([0]), most([0, 1, 2, 3])]
-        got = ask(*START, *looks, call, *looks)
-        ahead = got[len(START):len(START) + 3]
-        self.assertEqual(got[len(START) + 3], [refusal], call)
-        self.assertEqual(got[len(START) + 4:], ahead, call)
+        looks = [TOLD, most([0, 1, 2, 3]), binding([0, 3]), can([5, 5, 0, 3]), FAIR, LEVELS, WHOLE]
+        got = ask(*START, *looks, call, *looks)[len(START):]
+        self.assertEqual(got[len(looks)], [refusal], call)
+        self.assertEqual(got[len(looks) + 1:], got[:len(looks)], call)
 
     def taken(self, call):
         self.assertEqual(last(*START, call), [0], call)
@@ -117,26 +117,70 @@ class Refusals(unittest.TestCase):
         for members in ([], [0], [3], [0, 3], [0, 1, 2, 3]):
             self.assertGreaterEqual(last(*START, most(members))[0], 0)
 
+    def test_binding_set(self):
+        for members in NO_SETS:
+            self.held(binding(members), -2)
+        for members in ([], [0], [3], [0, 3], [0, 1, 2, 3]):
+            self.assertEqual(last(*START, binding(members))[0], 0)
+
+    def test_can_counts(self):
+        for count in (0, 1, MOUTHS - 1, MOUTHS + 1, 8, 9, 100):
+            for share in (0, 1, 101, HIGHEST):
+                self.held(can([share] * count), -4)
+        self.assertEqual(last(*START, can([0] * MOUTHS)), [1])
+
+    def test_can_shares(self):
+        for share in (-1, -2, -100, LOWEST, LOWEST + 1):
+            self.held(can([share] * MOUTHS), -4)
+            self.held(can([share]), -4)
+            for at in range(MOUTHS):
+                for other in (0, 1, HIGHEST):
+                    bad = [other] * MOUTHS
+                    bad[at] = share
+                    self.held(can(bad), -4)
+
+    def test_rename_order(self):
+        for order in ([], [0], [0, 1, 2], [1, 2, 3], [0, 1, 2, 3, 4], [3, 2, 1, 0, 0], [0, 1, 2, 3, 3],
+                      [0, 0, 2, 3], [0, 1, 1, 3], [3, 1, 2, 3], [0, 0, 0, 0], [1, 2, 3, 4],
+                      [1, 1, 2, 2], [0, 3, 0, 3], [-1, 1, 2, 3], [-1, 0, 1, 2, 3],
+                      list(range(8)), list(range(9)), list(range(100)), [0] * 100):
+            self.held(rename(order), -5)
+        for number in NO_MOUTH:
+            for at in range(MOUTHS):
+                order = [3, 1, 0, 2]
+                order[at] = number
+                self.held(rename(order), -5)
+            self.held(rename([number]), -5)
+            self.held(rename([number] * MOUTHS), -5)
+            self.held(rename([0, 1, 2, 3, number]), -5)
+        for order in ([0, 1, 2, 3], [3, 2, 1, 0], [1, 2, 3, 0], [0, 2, 1, 3]):
+            self.taken(rename(order))
+
     def test_edges_with_eight(self):
         start = [table([1] * 8, [1] * 8)]
         every = list(range(8))
-        fine = [reach(7, every), food(7, 2), appetite(7, 2), reach(7, [7])]
-        self.assertEqual(ask(*start, *fine), [[0]] * 5)
+        fine = [reach(7, every), food(7, 2), appetite(7, 2), reach(7, [7]), rename(every[::-1])]
+        self.assertEqual(ask(*start, *fine), [[0]] * 6)
         bad = [reach(8, every), reach(7, every + [8]), reach(7, [8]), food(8, 2),
-               appetite(8, 2), most([8]), most(every + [8])]
-        self.assertEqual(ask(*start, *bad)[1:], [[-2], [-3], [-3], [-3], [-2], [-2], [-2]])
+               appetite(8, 2), most([8]), most(every + [8]), binding([8]), binding(every + [8]),
+               can([0] * 7), can([0] * 9), rename(every[1:] + [8]), rename(every + [8])]
+        self.assertEqual(ask(*start, *bad)[1:], [[-2], [-3], [-3], [-3], [-2], [-2], [-2], [-2], [-2],
+                                                 [-4], [-4], [-5], [-5]])
 
     def test_refused_first_of_all(self):
         fresh = [0, 1, 1, 0, 0, 0]
         bad = [table([], [1]), table([1], [101]), reach(1, [0]), reach(0, [0, 0]), reach(0, [1]),
-               food(-1, 0), food(0, -1), appetite(1, 0), appetite(0, 101), most([0, 0])]
-        refusals = [-1, -1, -2, -3, -3, -3, -4, -2, -4, -2]
+               food(-1, 0), food(0, -1), appetite(1, 0), appetite(0, 101), most([0, 0]),
+               binding([1]), can([]), can([-1]), can([0, 0]), rename([]), rename([1]), rename([0, 0])]
+        refusals = [-1, -1, -2, -3, -3, -3, -4, -2, -4, -2, -2, -4, -4, -4, -5, -5, -5]
+        self.assertEqual(len(bad), len(refusals))
         for call, refusal in zip(bad, refusals):
             self.assertEqual(ask(call, TOLD), [[refusal], fresh])
 
     def test_many_refusals_change_nothing(self):
         bad = [table([], []), reach(9, []), reach(0, [2, 1]), food(3, 1), food(0, 101),
-               appetite(4, 1), appetite(0, -1), most([4])] * 20
+               appetite(4, 1), appetite(0, -1), most([4]), binding([4]), can([0]),
+               rename([0, 1, 2, 2])] * 20
         got = ask(*START, TOLD, *bad, TOLD)
         self.assertEqual(got[-1], got[len(START)])
 
